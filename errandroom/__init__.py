@@ -1,0 +1,1 @@
+"""Errandroom: errands that wait, made to machines of rooms."""
