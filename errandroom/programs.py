@@ -41,6 +41,11 @@ def is_tuple_of(one, least, most):
     return isinstance(one, tuple) and least <= len(one) <= most
 
 
+# A tuple that begins with a text, as rows and doors do.
+def is_worded(one):
+    return isinstance(one, tuple) and len(one) > 0 and isinstance(one[0], str)
+
+
 def is_name_formula(one):
     return is_formula(one, is_word)
 
@@ -100,9 +105,7 @@ def is_shaped_block(block, deep):
 
 
 def is_shaped_row(row):
-    if not isinstance(row, tuple) or len(row) == 0 or not isinstance(row[0], str):
-        return False
-    return len(row) == PARTS.get(row[0], 0)
+    return is_worded(row) and len(row) == PARTS.get(row[0], 0)
 
 
 # Of a shaped row what it has beside its blocks.

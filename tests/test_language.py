@@ -32,8 +32,10 @@ WORDS_NOWHERE = set(
     NamedTuple TypedDict TYPE_CHECKING abstractmethod""".split()
 )
 NAMES_NOWHERE = set(
-    """register mro elements open input version_info with_traceback add_note format format_map chr sort args encode""".split()
+    """register mro elements open input version_info with_traceback add_note format format_map chr sort""".split()
 )
+# In the place of these an object's value would hide something of Python's own errors and texts.
+VALUES_NOWHERE = ("args", "encode")
 WALKED = ("zip", "enumerate", "reversed", "range")
 WALKERS = ("list", "tuple", "dict", "sorted", "sum", "any", "all", "enumerate", "zip", "min", "max")
 
@@ -196,6 +198,8 @@ class Language(unittest.TestCase):
             self.check(node.attr not in NAMES_NOWHERE, path, node, node.attr)
             if isinstance(node.ctx, ast.Store):
                 values.add(node.attr)
+                self.check(isinstance(node.value, ast.Name), path, node, "a value not given through a local name")
+                self.check(node.attr not in VALUES_NOWHERE, path, node, node.attr)
                 self.check(node.attr not in pythons or node.attr in ("count", "index"), path, node, node.attr)
         self.assertEqual(methods & values, set())
         for path, node in nodes(ast.Call):
