@@ -1,8 +1,9 @@
 """The plain meaning of programs: what comes of a row of events, hour by hour."""
 
 from errandroom.errors import NoErrand
-from errandroom.houses import Town, begin_house
+from errandroom.houses import ProgramTown
 from errandroom.programs import errand_of, is_tuple_of, is_worded
+from errandroom.waiters import begin_town, pass_hour, told_asks
 from errandroom.worths import is_number, is_whole
 
 LONGEST_PATH = 6
@@ -28,33 +29,13 @@ def is_path(value):
 def meant(program, name, args, events):
     if len(errand_of(program, name)[1]) != len(args):
         raise NoErrand("the errand takes another count of numbers")
-    town = Town(program)
-    first = begin_house(town, (), name, args, 0)
-    first.settle(0)
+    town = ProgramTown(program)
+    begin_town(town, name, args)
     for hour, event in enumerate(events, start=1):
-        bring(town, first, event, hour)
-        first.settle(hour)
+        pass_hour(town, event, hour)
     return (told_houses(town), told_asks(town))
-
-
-# Late events bring nothing, but their hour goes by all the same.
-def bring(town, first, event, hour):
-    if event[0] == "off":
-        first.call_off(hour)
-    elif event[1] in town.asks:
-        answer(town.asks[event[1]], event, hour)
-
-
-def answer(ask, event, hour):
-    if ask.end == ():
-        ask.end = ("good" if event[2] else "bad", event[3], hour)
 
 
 def told_houses(town):
     houses = [(house.path, house.name, house.begun, house.end, tuple(house.diary)) for house in town.houses]
     return tuple(sorted(houses))
-
-
-def told_asks(town):
-    asks = [(ask.path, ask.who, ask.number, ask.sent, ask.end) for ask in town.asks.values()]
-    return tuple(sorted(asks))

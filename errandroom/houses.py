@@ -1,35 +1,22 @@
 """Houses: errands at work, row by row, until each wants something or ends."""
 
 from errandroom.programs import names_of, rows_of
-from errandroom.wants import (
-    Ask,
-    Houseless,
-    Want,
-    call_off_branches,
-    decide,
-    first_bad,
-    is_over,
-    is_reached,
-    set_pairs,
-    settle_branches,
-)
+from errandroom.waiters import Town, Waiter
 from errandroom.worths import worth
 
-MOST_ROUNDS = 16
-MOST_WANTS = 5
-LONGEST_PATH = 4
-FAULT_OF_ROUNDS = 1
-FAULT_OF_WANTS = 3
 
-
-# What a whole run has: the errands by their names, and all houses and asks that ever began, the asks by their paths.
-class Town:
+class ProgramTown(Town):
     def __init__(self, program):
+        Town.__init__(self)
         self.errands = {}
-        self.houses = []
-        self.asks = {}
         for errand in program:
             self.errands[errand[0]] = (errand[0], errand[1], numbered(errand[2], 0))
+
+    def begin(self, path, name, handed, hour):
+        house = House(self, path, self.errands[name], handed, hour)
+        self.houses.append(house)
+        house.work(hour)
+        return house
 
 
 # A block at work, and the row that it stands in (None: it is the errand's own).
@@ -44,45 +31,57 @@ class Frame:
         self.at = 0
 
 
-class House:
+class House(Waiter):
     def __init__(self, town, path, errand, handed, hour):
-        self.town = town
-        self.path = path
-        self.name = errand[0]
-        self.begun = hour
-        self.end = ()
-        self.diary = []
+        Waiter.__init__(self, town, path, errand[0], hour)
         self.held = first_held(errand, handed)
         self.frames = [Frame("errand", errand[2], None, None)]
-        self.want = None
-        self.wants = 0
-        self.rounds = 0
-        self.called = False
 
-    # Within an undoing it is only noted: the undoing's own want goes on.
-    def call_off(self, hour):
-        if self.end == () and not self.called:
-            self.called = True
-            if not in_undoing(self):
-                call_off_branches(self.want, hour)
+    # Within an undoing nothing that stands there is called off.
+    def is_shut(self):
+        return any([frame.kind == "undoing" for frame in self.frames])
 
-    # Brings the house as far as it comes in this hour by the ends of its branches.
-    def settle(self, hour):
-        while self.want is not None:
-            settle_branches(self.want, hour)
-            if not goes_out(self):
-                decide(self.want, hour)
-            if not is_over(self.want):
+    def worth_of(self, one):
+        return worth(one, self.held)
+
+    def take(self, pairs):
+        for name, number in pairs:
+            self.held[name] = number
+
+    # Does rows until the house waits or has ended.
+    def work(self, hour):
+        while self.end == () and self.want is None:
+            frame = self.frames[-1]
+            if frame.at == len(frame.block):
+                self.frames.pop()
+                leave_block(self, frame, hour)
+            else:
+                frame.at += 1
+                do_row(self, frame.block[frame.at - 1], hour)
+
+    # A fault goes outwards to the first block that takes it.
+    def fall(self, number, hour):
+        while len(self.frames) > 0:
+            frame = self.frames.pop()
+            if frame.kind == "try":
+                catch(self, frame, number)
                 return
-            leave_want(self, hour)
-            work(self, hour)
+            if frame.kind == "do":
+                undo(self, frame, number, hour)
+                return
+            if frame.kind == "undoing":
+                leave_undoing(self, frame, number, hour)
+                return
+        self.close("bad", number, hour)
 
-
-def begin_house(town, path, name, handed, hour):
-    house = House(town, path, town.errands[name], handed, hour)
-    town.houses.append(house)
-    work(house, hour)
-    return house
+    # Goes out as far as the next do that is to be undone; nothing catches that.
+    def go_out(self, hour):
+        while len(self.frames) > 0:
+            frame = self.frames.pop()
+            if frame.kind == "do":
+                undo(self, frame, None, hour)
+                return
+        self.close("off", 0, hour)
 
 
 def first_held(errand, handed):
@@ -120,45 +119,17 @@ def count_dos(block):
     return len([row for row in rows_of(block) if row[0] == "do"])
 
 
-def in_undoing(house):
-    return any([frame.kind == "undoing" for frame in house.frames])
-
-
-def goes_out(house):
-    return house.called and not in_undoing(house)
-
-
-def note(house, hour, word, number):
-    house.diary.append((hour, word, number))
-
-
-def close(house, word, number, hour):
-    house.end = (word, number, hour)
-
-
 def enter(house, kind, block, row):
     house.frames.append(Frame(kind, block, row, None))
 
 
-# Does rows until the house waits or has ended.
-def work(house, hour):
-    while house.end == () and house.want is None:
-        frame = house.frames[-1]
-        if frame.at == len(frame.block):
-            house.frames.pop()
-            leave_block(house, frame, hour)
-        else:
-            frame.at += 1
-            do_row(house, frame.block[frame.at - 1], hour)
-
-
 def leave_block(house, frame, hour):
     if frame.kind == "errand":
-        close(house, "good", 0, hour)
+        house.close("good", 0, hour)
     if frame.kind == "while":
         do_while(house, frame.row, hour)
     if frame.kind == "do":
-        note(house, hour, "done", frame.row[3])
+        house.note(hour, "done", frame.row[3])
     if frame.kind == "undoing":
         leave_undoing(house, frame, frame.fault, hour)
 
@@ -166,91 +137,36 @@ def leave_block(house, frame, hour):
 def do_row(house, row, hour):
     word = row[0]
     if word == "set":
-        house.held[row[1]] = worth(row[2], house.held)
+        house.held[row[1]] = house.worth_of(row[2])
     elif word == "tell":
-        note(house, hour, "tell", worth(row[1], house.held))
+        house.note(hour, "tell", house.worth_of(row[1]))
     elif word == "give":
         do_give(house, row, hour)
     elif word == "fail":
-        fall(house, worth(row[1], house.held), hour)
+        house.fall(house.worth_of(row[1]), hour)
     elif word == "if":
-        enter(house, "if", row[2] if worth(row[1], house.held) != 0 else row[3], row)
+        enter(house, "if", row[2] if house.worth_of(row[1]) != 0 else row[3], row)
     elif word == "while":
         do_while(house, row, hour)
     elif word == "try":
         enter(house, "try", row[1], row)
     elif word == "do":
-        note(house, hour, "do", row[3])
+        house.note(hour, "do", row[3])
         enter(house, "do", row[1], row)
     else:
-        do_want(house, row, hour)
+        house.begin_want(row[1], row[2], hour)
 
 
 def do_give(house, row, hour):
     for frame in reversed(house.frames):
         if frame.kind == "do":
-            note(house, hour, "done", frame.row[3])
-    close(house, "good", worth(row[1], house.held), hour)
+            house.note(hour, "done", frame.row[3])
+    house.close("good", house.worth_of(row[1]), hour)
 
 
 def do_while(house, row, hour):
-    if worth(row[1], house.held) == 0:
-        return
-    if house.rounds == MOST_ROUNDS:
-        fall(house, FAULT_OF_ROUNDS, hour)
-    else:
-        house.rounds += 1
+    if house.worth_of(row[1]) != 0 and house.begins_round(hour):
         enter(house, "while", row[2], row)
-
-
-def do_want(house, row, hour):
-    if house.wants == MOST_WANTS:
-        fall(house, FAULT_OF_WANTS, hour)
-        return
-    begun = []
-    for place, branch in enumerate(row[2]):
-        begun.append(begin_branch(house, branch, house.path + (house.wants, place), hour))
-    house.wants += 1
-    house.want = Want(row[1], [branch[0] for branch in row[2]], begun)
-
-
-def begin_branch(house, branch, path, hour):
-    town = house.town
-    if branch[1] == "ask":
-        ask = Ask(path, branch[2], worth(branch[3], house.held), hour)
-        town.asks[path] = ask
-        return ask
-    if len(house.path) >= LONGEST_PATH:
-        return Houseless(hour)
-    return begin_house(town, path, branch[2], [worth(one, house.held) for one in branch[3]], hour)
-
-
-def leave_want(house, hour):
-    want = house.want
-    house.want = None
-    if goes_out(house):
-        go_out(house, hour)
-    elif is_reached(want):
-        for name, number in set_pairs(want):
-            house.held[name] = number
-    else:
-        fall(house, first_bad(want), hour)
-
-
-# A fault goes outwards to the first block that takes it.
-def fall(house, number, hour):
-    while len(house.frames) > 0:
-        frame = house.frames.pop()
-        if frame.kind == "try":
-            catch(house, frame, number)
-            return
-        if frame.kind == "do":
-            undo(house, frame, number, hour)
-            return
-        if frame.kind == "undoing":
-            leave_undoing(house, frame, number, hour)
-            return
-    close(house, "bad", number, hour)
 
 
 def catch(house, frame, number):
@@ -260,23 +176,13 @@ def catch(house, frame, number):
 
 
 def undo(house, frame, number, hour):
-    note(house, hour, "undo", frame.row[3])
+    house.note(hour, "undo", frame.row[3])
     house.frames.append(Frame("undoing", frame.row[2], frame.row, number))
 
 
 def leave_undoing(house, frame, number, hour):
-    note(house, hour, "undone", frame.row[3])
-    if goes_out(house):
-        go_out(house, hour)
+    house.note(hour, "undone", frame.row[3])
+    if house.goes_out():
+        house.go_out(hour)
     else:
-        fall(house, number, hour)
-
-
-# Goes out as far as the next do that is to be undone; nothing catches that.
-def go_out(house, hour):
-    while len(house.frames) > 0:
-        frame = house.frames.pop()
-        if frame.kind == "do":
-            undo(house, frame, None, hour)
-            return
-    close(house, "off", 0, hour)
+        house.fall(number, hour)

@@ -119,7 +119,7 @@ def is_off(off, many):
 
 
 # The rooms that a house may come to from a room in the same hour, but for those by rounds, which are bounded.
-def leads_of(room):
+def leads_in_the_hour(room):
     leads = []
     word = room[1][0]
     if word == "go":
@@ -140,7 +140,7 @@ def has_ring(rooms):
     while grown:
         grown = False
         for number, room in enumerate(rooms):
-            if number not in ending and all([lead in ending for lead in leads_of(room)]):
+            if number not in ending and all([lead in ending for lead in leads_in_the_hour(room)]):
                 ending[number] = True
                 grown = True
     return len(ending) < len(rooms)

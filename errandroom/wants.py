@@ -1,4 +1,4 @@
-"""Wants, and what their branches begin: asks, calls that find no house, and houses (of errandroom.houses).
+"""Wants, and what their branches begin: asks, calls that find no house, and houses (beneath errandroom.waiters).
 
 Whatever a branch begins has an end, () until it has come, and takes call_off and settle.
 """

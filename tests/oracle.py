@@ -175,9 +175,11 @@ class OracleNone:
 
 
 class OracleRun:
+    house = OracleHouse
+
     def __init__(self, program, name, args, events):
         self.program, self.hour, self.houses, self.asks = program, 0, [], []
-        first = OracleHouse(self, (), name, args, 0)
+        first = self.house(self, (), name, args, 0)
         self.houses.append(first)
         self.settle()
         for event in events:
@@ -195,7 +197,7 @@ class OracleRun:
             return self.asks[-1]
         if len(path) > 4:
             return OracleNone(self.hour)
-        self.houses.append(OracleHouse(self, path, branch[2], [house.worth(one) for one in branch[3]], self.hour))
+        self.houses.append(self.house(self, path, branch[2], [house.worth(one) for one in branch[3]], self.hour))
         return self.houses[-1]
 
     def settle(self):

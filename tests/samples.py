@@ -25,6 +25,32 @@ def nested(deep, inner=("tell", 1)):
 
 ASK = (None, "ask", "sun", 1)
 
+OFF = ("off",)
+
+
+def good(path, n=0):
+    return ("answer", path, True, n)
+
+
+def bad(path, n=0):
+    return ("answer", path, False, n)
+
+
+def some_event(dice, waits):
+    kind = dice.random()
+    if kind < 0.08:
+        return OFF
+    if kind < 0.15 or not waits:
+        return good(tuple(dice.randrange(4) for _ in range(dice.choice((0, 2, 4, 6)))), 1)
+    return ("answer", dice.choice(waits), dice.random() < 0.6, dice.choice((0, 1, 2, 7)))
+
+
+def plain(value):
+    if isinstance(value, tuple):
+        return all(plain(part) for part in value)
+    return value is None or type(value) in (int, str, bool)
+
+
 WHOLE = (
     (
         "main",
@@ -86,11 +112,12 @@ end"""
 
 
 class ProgramDice:
-    """Makes programs by a random source that is handed in."""
+    """Makes programs by a random source that is handed in; lively ones seldom end early."""
 
-    def __init__(self, dice, most_rows=24):
+    def __init__(self, dice, most_rows=24, lively=False):
         self.dice = dice
         self.most_rows = most_rows
+        self.lively = lively
 
     def word(self):
         size = self.dice.choice((1, 2, 5, 8))
@@ -124,6 +151,8 @@ class ProgramDice:
         words = ["set", "tell", "tell", "fail", "want", "want", "want"] + ([] if undoing else ["give"])
         if deep < 4:
             words += ["if", "while", "try", "try", "do", "do", "do"]
+        if self.lively and self.dice.random() < 0.85:
+            words = [word for word in words if word not in ("fail", "give")]
         word = self.dice.choice(words)
         if word == "set":
             return ("set", self.dice.choice(NAMES), self.formula())

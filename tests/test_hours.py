@@ -6,17 +6,7 @@ from errandroom.errors import ErrandError, NoErrand
 from errandroom.hours import is_event, meant
 from errandroom.programs import is_program
 from oracle import OracleRun
-from samples import OTHERS, TOP, WHOLE, ProgramDice, Strange, program
-
-OFF = ("off",)
-
-
-def good(path, n=0):
-    return ("answer", path, True, n)
-
-
-def bad(path, n=0):
-    return ("answer", path, False, n)
+from samples import OFF, OTHERS, TOP, WHOLE, ProgramDice, Strange, bad, good, plain, program, some_event
 
 
 def ask(x=None, who="sun", n=1):
@@ -785,21 +775,6 @@ class Told(Runs):
                 waits = [one[0] for one in meant(value, name, args, events)[1] if one[4] == ()]
                 events += (some_event(dice, waits),)
             self.assertEqual(meant(value, name, args, events), OracleRun(value, name, args, events).told(), seed)
-
-
-def some_event(dice, waits):
-    kind = dice.random()
-    if kind < 0.08:
-        return OFF
-    if kind < 0.15 or not waits:
-        return good(tuple(dice.randrange(4) for _ in range(dice.choice((0, 2, 4, 6)))), 1)
-    return ("answer", dice.choice(waits), dice.random() < 0.6, dice.choice((0, 1, 2, 7)))
-
-
-def plain(value):
-    if isinstance(value, tuple):
-        return all(plain(part) for part in value)
-    return value is None or type(value) in (int, str, bool)
 
 
 if __name__ == "__main__":
