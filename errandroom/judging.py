@@ -149,8 +149,8 @@ def is_fall_kept(walk, room):
         return due is None and room[2] is None
     if not may_set(due, room[2][0]):
         return False
-    key = key_of_fall(due)
-    held = walk.held if key is None else laid(walk.held, key, room[2][0])
+    # A catch without a name sets no slot either, and so changes nothing of what is held.
+    held = laid(walk.held, key_of_fall(due), room[2][0])
     return leads(walk.ground, room[2][1], due[2], held, None)
 
 

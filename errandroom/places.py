@@ -52,6 +52,8 @@ def is_between(place):
 
 # The block in which the place is a row's or the end; None where there is none.
 def block_at(errand, place):
+    if is_between(place):
+        return None
     if len(place) == 1:
         return errand[2]
     row = row_at(errand, place[:-2])
@@ -60,8 +62,6 @@ def block_at(errand, place):
 
 
 def row_at(errand, place):
-    if is_between(place):
-        return None
     block = block_at(errand, place)
     if block is None or not 0 <= place[-1] < len(block):
         return None
@@ -75,8 +75,6 @@ def word_at(errand, place):
 
 
 def is_end(errand, place):
-    if is_between(place):
-        return False
     block = block_at(errand, place)
     return block is not None and place[-1] == len(block)
 

@@ -17,15 +17,13 @@ def do_keys(errand):
     return [key_of(d) for place, d in numbers_of(errand)]
 
 
-# An E with the slots that hold its names in their place; None where a name is not held.
+# An E with slots in the place of its names. For a name that is not held None stands in it, as in no E of a machine.
 def slotted(one, held):
     if isinstance(one, str):
         return ("slot", held[one]) if one in held else None
-    if not isinstance(one, tuple):
-        return one
-    left = slotted(one[1], held)
-    right = slotted(one[2], held)
-    return None if left is None or right is None else (one[0], left, right)
+    if isinstance(one, tuple):
+        return (one[0], slotted(one[1], held), slotted(one[2], held))
+    return one
 
 
 # What is held when the key has come to lie in the slot: there it lies alone, and nowhere else. None: it lies nowhere.
@@ -44,8 +42,8 @@ def laid(held, key, slot):
 def laid_behind(held, least, names, slots):
     for name, slot in zip(names, slots):
         if name is not None:
-            stays = slot is None or least == len(names) or held.get(name) == slot
+            lies_there = least == len(names) or held.get(name) == slot
             held = laid(held, name, slot)
-            if not stays:
+            if not lies_there:
                 held = laid(held, name, None)
     return held

@@ -63,8 +63,7 @@ class Waiter:
     def settle(self, hour):
         while self.want is not None:
             settle_branches(self.want, hour)
-            if not self.goes_out():
-                decide(self.want, hour)
+            decide(self.want, hour)
             if not is_over(self.want):
                 return
             self.leave_want(hour)

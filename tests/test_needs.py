@@ -148,6 +148,10 @@ class Names(Needs):
             self.assertIsNone(way_to(errand(("tell", "a")), (0,), key))
             self.assertIsNone(way_to(errand(("tell", "a")), (1,), key))
 
+    def test_places_that_are_none(self):
+        for place in ((), (2,), (0, 0), (0, 0, 0), (-1,)):
+            self.assertIsNone(way_to(errand(("tell", "a")), place, "a"))
+
 
 class Numbers(Needs):
     def test_read_at_the_end_of_the_undoing(self):
