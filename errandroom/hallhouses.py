@@ -11,12 +11,17 @@ class MachineTown(Town):
         self.machines = machines
 
     def begin(self, path, name, handed, hour):
-        machine = machine_of(self.machines, name)
-        slots = list(handed) + [0] * (machine[2] - len(handed))
-        house = HallHouse(self, path, machine, slots, hour)
+        house = self.new_house(path, machine_of(self.machines, name), handed, hour)
         self.houses.append(house)
         house.work(hour)
         return house
+
+    def new_house(self, path, machine, handed, hour):
+        return HallHouse(self, path, machine, first_slots(machine, handed), hour)
+
+
+def first_slots(machine, handed):
+    return list(handed) + [0] * (machine[2] - len(handed))
 
 
 class HallHouse(Waiter):
@@ -37,9 +42,14 @@ class HallHouse(Waiter):
             self.slots[slot] = number
         self.room = self.rooms[self.room][1][3]
 
+    # Of the rooms that were come to a hall keeps nothing; houses of stories do.
+    def come_in(self, hour):
+        pass
+
     # Goes through rooms until the house waits or has ended.
     def work(self, hour):
         while self.end == () and self.want is None:
+            self.come_in(hour)
             room = self.rooms[self.room]
             for row in room[0]:
                 do_row(self, row, hour)

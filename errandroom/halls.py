@@ -8,7 +8,7 @@ from errandroom.wants import Ask, Houseless, Want
 
 
 def begun(machines, name, args):
-    return told_hall(begun_town(machines, name, args), 0)
+    return told_hall(run_town(MachineTown(machines), name, args, ()), 0)
 
 
 def come(machines, hall, event):
@@ -19,18 +19,20 @@ def come(machines, hall, event):
 
 
 def run(machines, name, args, events):
-    town = begun_town(machines, name, args)
+    return told_hall(run_town(MachineTown(machines), name, args, events), len(events))
+
+
+def run_town(town, name, args, events):
+    ask_for_errand(town.machines, name, args)
+    begin_town(town, name, args)
     for hour, event in enumerate(events, start=1):
         pass_hour(town, event, hour)
-    return told_hall(town, len(events))
+    return town
 
 
-def begun_town(machines, name, args):
+def ask_for_errand(machines, name, args):
     if machine_of(machines, name)[1] != len(args):
         raise NoErrand("the machine takes another count of numbers")
-    town = MachineTown(machines)
-    begin_town(town, name, args)
-    return town
 
 
 def told_hall(town, hour):

@@ -51,7 +51,7 @@ def made_room(errand, place, held, numbers):
     rows = [made_row(row, held) for row in deed[0]]
     fall = made_fall(fall_due(errand, place, deed[1]), held, numbers)
     off = off_due(errand, place, deed[1])
-    return (tuple(rows), made_door(deed[1], held, numbers), fall, numbers.get(off, off))
+    return (tuple(rows), made_door(deed[1], held, held, numbers), fall, numbers.get(off, off))
 
 
 def made_row(row, held):
@@ -62,7 +62,8 @@ def made_row(row, held):
     return row
 
 
-def made_door(door, held, numbers):
+# What a want sets is told by its own slots, those of the names that are held behind it.
+def made_door(door, held, set_behind, numbers):
     word = door[0]
     if word in ("go", "round"):
         return (word, numbers[door[1]])
@@ -71,14 +72,15 @@ def made_door(door, held, numbers):
     if word == "out":
         return (word, held[door[1]])
     if word == "want":
-        return (word, door[1], tuple([made_branch(branch, held) for branch in door[2]]), numbers[door[3]])
+        return (word, door[1], tuple([made_branch(branch, held, set_behind) for branch in door[2]]), numbers[door[3]])
     return (word, slotted(door[1], held))
 
 
-def made_branch(branch, held):
+def made_branch(branch, held, set_behind):
+    slot = set_behind.get(branch[0])
     if branch[1] == "ask":
-        return (held.get(branch[0]), "ask", branch[2], slotted(branch[3], held))
-    return (held.get(branch[0]), "call", branch[2], tuple([slotted(one, held) for one in branch[3]]))
+        return (slot, "ask", branch[2], slotted(branch[3], held))
+    return (slot, "call", branch[2], tuple([slotted(one, held) for one in branch[3]]))
 
 
 def made_fall(fall, held, numbers):

@@ -5,7 +5,8 @@ import copy
 from errandroom.judging import judged
 from errandroom.machines import is_machines
 from errandroom.places import slid
-from makings import replaced, room
+from makings import laid, replaced, room
+from room_oracle import Map, OracleNeeds, behind
 from samples import plain
 
 S = [("slot", s) for s in range(6)]
@@ -83,6 +84,84 @@ def merged_by_steps(errand, rooms, pairs):
         rooms, pairs = without(rooms, pairs, found[-1][1], found[-1][0])
 
 
+class SharedBySteps:
+    """A machine whose slots are exchanged one by one for those of the keys that lie in them."""
+
+    def __init__(self, errand, machine, pairs):
+        self.map, oracle = Map(errand), OracleNeeds(errand)
+        self.needed = {key: oracle.needed(key) for key in oracle.keys}
+        self.slot_of = {name: slot for slot, name in enumerate(errand[1])}
+        for key in sorted(oracle.keys - set(errand[1])):
+            least = len(errand[1]) if self.is_needed(key, (0,)) else 0
+            taken = [slot for other, slot in self.slot_of.items() if self.clash(oracle.leads, key, other)]
+            self.slot_of[key] = min(slot for slot in range(least, 99) if slot not in taken)
+        self.seen = set(range(len(errand[1])))
+        self.rooms = tuple(self.room(*pair) for pair in zip(machine[3], pairs))
+        self.pairs = tuple(
+            (place, tuple(sorted((key, self.slot(key)) for key in oracle.keys if self.is_needed(key, place)))) for place, _ in pairs
+        )
+        self.slots = max(self.seen, default=-1) + 1
+        self.told = (machine[:2] + (self.slots, self.rooms), self.pairs) if self.slots <= machine[2] else (machine, pairs)
+
+    def is_needed(self, key, place):
+        return self.map.slid(place) in self.needed[key]
+
+    def clash(self, leads, one, other):
+        if self.needed[one] & self.needed[other]:
+            return True
+        return any(a in keys and there in self.needed[b] for a, b in ((one, other), (other, one)) for _, there, keys in leads)
+
+    def slot(self, key):
+        self.seen.add(self.slot_of[key])
+        return self.slot_of[key]
+
+    def exchanged(self, one, held):
+        if not isinstance(one, tuple):
+            return one
+        if one[:1] == ("slot",):
+            return ("slot", self.slot(next(key for key, slot in held.items() if slot == one[1])))
+        return tuple(self.exchanged(part, held) for part in one)
+
+    def room(self, old, pair):
+        place, held, rows = self.map.slid(pair[0]), dict(pair[1]), []
+        for row in old[0]:
+            here = self.map.row[place]
+            if row[0] == "put":
+                rows.append(("put", self.slot(here[1]), self.exchanged(row[2], held)))
+                held = laid(held, here[1], row[1])
+            else:
+                rows.append(self.exchanged(row, held) if row[0] == "tell" else row)
+            if row[0] != "mark":
+                place = behind(place)
+            elif row[1] in ("do", "undo"):
+                place += (0, 0) if row[1] == "do" else (0,)
+            elif row[1] == "done" and here is None:
+                place = behind(place[:-2])
+            place = self.map.slid(place)
+        return (tuple(rows), self.door(old[1], place, held), self.fall(old[2], self.map.fall[place]), old[3])
+
+    def door(self, door, place, held):
+        if door[0] == "out":
+            return ("out", self.slot(next(key for key, slot in held.items() if slot == door[1])))
+        if door[0] != "want":
+            return self.exchanged(door, held)
+        names = [branch[0] for branch in self.map.row[place][2]]
+        slots = [None if x is None or not self.is_needed(x, behind(place)) else self.slot(x) for x in names]
+        return door[:2] + (tuple((s,) + self.exchanged(branch[1:], held) for s, branch in zip(slots, door[2])), door[3])
+
+    def fall(self, fall, due):
+        if fall is None:
+            return None
+        if due[0] == "undo":
+            return (self.slot(str(due[1])), fall[1])
+        return (None if due[1] is None or not self.is_needed(due[1], due[2]) else self.slot(due[1]), fall[1])
+
+
+def shared_by_steps(program, machines, paper):
+    told = [SharedBySteps(*parts).told for parts in zip(program, machines, paper)]
+    return tuple(machine for machine, _ in told), tuple(pairs for _, pairs in told)
+
+
 def by_steps(steps, program, machines, paper):
     told = [steps(errand, machine[3], pairs) for errand, machine, pairs in zip(program, machines, paper)]
     return (
@@ -116,12 +195,13 @@ class Case:
         self.test, self.one_pass, self.params, self.slots = test, one_pass, params, slots
         self.program = (("main", params, tuple(rows)),)
 
-    def parts(self, rooms, pairs):
-        machines = (("main", len(self.params), self.slots, tuple(rooms)),)
+    def parts(self, rooms, pairs, slots=None):
+        machines = (("main", len(self.params), self.slots if slots is None else slots, tuple(rooms)),)
         return machines, (tuple((place, tuple(kept)) for place, kept in pairs),)
 
-    def told(self, rooms, pairs, new_rooms, new_pairs):
-        self.test.assertEqual(led(self.test, self.one_pass, self.program, *self.parts(rooms, pairs)), self.parts(new_rooms, new_pairs))
+    def told(self, rooms, pairs, new_rooms, new_pairs, new_slots=None):
+        told = led(self.test, self.one_pass, self.program, *self.parts(rooms, pairs))
+        self.test.assertEqual(told, self.parts(new_rooms, new_pairs, new_slots))
 
     def same(self, rooms, pairs):
         self.told(rooms, pairs, rooms, pairs)

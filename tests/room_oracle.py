@@ -255,6 +255,7 @@ class OracleMachineHouse(OracleHouse):
         self.wants = self.rounds = self.undoings = self.room = 0
         self.called = False
         self.want = None
+        self.handed, self.called_at, self.steps = tuple(args), (), []
         self.life = self.live_in_rooms()
         self.go_on()
 
@@ -266,6 +267,7 @@ class OracleMachineHouse(OracleHouse):
 
     def live_in_rooms(self):
         while True:
+            self.steps.append((self.run.hour, self.room, tuple(self.slots)))
             rows, door, fall, off = self.machine[3][self.room]
             self.undoings = 1 if off == "shut" else 0
             for row in rows:
@@ -330,6 +332,16 @@ class OracleMachineHouse(OracleHouse):
 
 class OracleHall(OracleRun):
     house = OracleMachineHouse
+
+    def call_off(self, branch):
+        ahead = getattr(branch, "called", False)
+        super().call_off(branch)
+        if getattr(branch, "called", False) and not ahead:
+            branch.called_at = (self.hour,)
+
+    def story(self):
+        houses = [(one.path, one.name, one.handed, one.begun, one.called_at, tuple(one.steps), one.end) for one in self.houses]
+        return (tuple(sorted(houses)), self.told()[1])
 
     def hall(self):
         houses, asks = self.told()
