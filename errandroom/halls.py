@@ -94,6 +94,12 @@ def opened_want(house, known):
     return Want(door[1], [branch[0] for branch in door[2]], branches)
 
 
+# Whether the paths of what is told of houses, or of asks, rise.
+def rises(told):
+    paths = [one[0] for one in told]
+    return paths == sorted(set(paths))
+
+
 def waiting(hall):
     return tuple([(path, who, number) for path, who, number, sent, end in hall[2] if end == ()])
 

@@ -5,7 +5,7 @@ from errandroom.making import made_door, made_fall, made_row
 from errandroom.needs import needed_keys
 from errandroom.places import slid
 from errandroom.rooms import door_leads, each_led
-from errandroom.slots import keys_of, slots_in
+from errandroom.slots import keys_of
 
 
 def shared(program, machines, paper):
@@ -98,10 +98,11 @@ def shared_fall(errand, fall, due, held, needed):
     return made_fall(due, caught, {due[2]: fall[1]})
 
 
-# As many as are told somewhere, and those below them.
+# As many as are told somewhere, and those below them. What a room reads, or sets for another one that needs it, is kept
+# in some room, or put: so no other slots are looked at.
 def count_slots(many, rooms, kept):
     slots = [many - 1]
     for room, pair in zip(rooms, kept):
-        slots.extend(slots_in(room))
+        slots.extend([row[1] for row in room[0] if row[0] == "put"])
         slots.extend([slot for key, slot in pair[1]])
     return max(slots) + 1

@@ -1,7 +1,7 @@
 """Keys of an errand, its names and the numbers of its dos, and the slots that hold them: dicts from keys to slots."""
 
 from errandroom.places import numbers_of
-from errandroom.programs import formulas_of, names_of
+from errandroom.programs import names_of
 
 
 # A word has no figures, so no name is taken for a number.
@@ -47,37 +47,3 @@ def laid_behind(held, least, names, slots):
             if not lies_there:
                 held = laid(held, name, None)
     return held
-
-
-# The slots that stand in a room's rows, door and fall.
-def slots_in(room):
-    found = door_slots(room[1])
-    for row in room[0]:
-        if row[0] == "put":
-            found.append(row[1])
-        if row[0] != "mark":
-            found.extend(formula_slots(row[-1]))
-    if room[2] is not None and room[2][0] is not None:
-        found.append(room[2][0])
-    return found
-
-
-def door_slots(door):
-    if door[0] in ("go", "round"):
-        return []
-    if door[0] == "out":
-        return [door[1]]
-    if door[0] != "want":
-        return formula_slots(door[1])
-    found = [branch[0] for branch in door[2] if branch[0] is not None]
-    for one in formulas_of(door[:3]):
-        found.extend(formula_slots(one))
-    return found
-
-
-def formula_slots(one):
-    if not isinstance(one, tuple):
-        return []
-    if one[0] == "slot":
-        return [one[1]]
-    return formula_slots(one[1]) + formula_slots(one[2])

@@ -5,7 +5,7 @@ ask's by the events; when they were called off is said by the want that began th
 and no story but the run's own is walked.
 """
 
-from errandroom.halls import ask_for_errand
+from errandroom.halls import ask_for_errand, rises
 from errandroom.machines import machine_of
 from errandroom.stories import StoryHouse, story_of
 from errandroom.wants import Ask, is_over
@@ -54,6 +54,7 @@ class Begun:
 class LoneHouse(StoryHouse):
     def __init__(self, tale, head):
         StoryHouse.__init__(self, LoneTown(tale), head[0], machine_of(tale.machines, head[1]), head[2], head[3])
+        # The hour in which it is called off, unless it has ended by then.
         self.due_call = head[4]
         # Pairs of a want that was begun and the hour in which its branches were called off, or None.
         self.wanted = []
@@ -65,7 +66,7 @@ class LoneHouse(StoryHouse):
             give_told_ends(self.town.tale, self.want)
             decided = decided_at(self.want)
             self.wanted.append((self.want, self.calls_off(decided)))
-            if not is_over(self.want) or not (decided is not None or self.goes_out()):
+            if not is_over(self.want) or (decided is None and not self.goes_out()):
                 return
             hour = over_at(self.want)
             self.leave_want(hour)
@@ -73,7 +74,7 @@ class LoneHouse(StoryHouse):
 
     # The hour in which the branches of the want are called off: when it is decided, or when the house is called off.
     def calls_off(self, decided):
-        if self.called or self.due_call == () or self.leaves_ahead_of_call(decided):
+        if self.due_call == () or self.leaves_ahead_of_call(decided):
             return decided
         self.called = True
         self.called_at = self.due_call
@@ -120,7 +121,7 @@ def walks(machines, name, args, events, told):
     if not rises(told[0]) or not rises(told[1]):
         return False
     tale = Tale(machines, events, told)
-    heads = [((), name, args, 0, first_call(tale, events))]
+    heads = [((), name, args, 0, first_off(events))]
     houses = 0
     asks = 0
     while len(heads) > 0:
@@ -134,23 +135,14 @@ def walks(machines, name, args, events, told):
             if not all([tale.told_asks.get(ask[0]) == ask for ask in due]):
                 return False
             asks += len(due)
-            heads.extend(due_heads(tale, want, hour))
+            heads.extend(due_heads(want, hour))
     # All that was begun is told: so nothing else is, where the counts are the same.
     return houses == len(told[0]) and asks == len(told[1])
 
 
-def rises(told):
-    paths = [one[0] for one in told]
-    return paths == sorted(set(paths))
-
-
-# The first off calls the first house off, but where that has ended ahead.
-def first_call(tale, events):
+def first_off(events):
     hours = [hour for hour, event in enumerate(events, start=1) if event[0] == "off"]
-    if len(hours) == 0:
-        return ()
-    end = told_end(tale.told_houses, ())
-    return () if end != () and end[2] < hours[0] else (hours[0],)
+    return tuple(hours[:1])
 
 
 # The asks of a want as they are to be told, its branches called off in that hour, or never.
@@ -166,13 +158,8 @@ def due_end(tale, ask, hour):
     return () if hour is None else ("off", 0, hour)
 
 
-# What the story is to begin with of each house that the want has begun: those that had ended were not called off.
-def due_heads(tale, want, hour):
-    heads = []
-    for branch in want.branches:
-        if isinstance(branch, Begun):
-            told = tale.told_houses.get(branch.path)
-            ended = told is not None and told[4] == () and told[6] != () and hour is not None and told[6][2] <= hour
-            called = () if hour is None or ended else (hour,)
-            heads.append((branch.path, branch.name, branch.handed, branch.begun, called))
-    return heads
+# What the story is to begin with of each house that the want has begun.
+def due_heads(want, hour):
+    begun = [branch for branch in want.branches if isinstance(branch, Begun)]
+    due_call = () if hour is None else (hour,)
+    return [(branch.path, branch.name, branch.handed, branch.begun, due_call) for branch in begun]

@@ -56,6 +56,14 @@ def some_machines(dice, seed):
     return machines if seed % 4 else shorter(program, machines, paper)[0]
 
 
+def some_run_of(seed, longest, numbers=(0, 1, 2, 5)):
+    """Dice, machines, the name of one of them, what it is handed, and events."""
+    dice = random.Random(seed)
+    machines = some_machines(dice, seed)
+    args = tuple(dice.choice(numbers) for _ in range(machines[0][1]))
+    return dice, machines, machines[0][0], args, some_events(dice, machines, args, longest)
+
+
 class Stories(unittest.TestCase):
     def houses(self, machines, *events, args=()):
         return told_story(self, machines, events, args=args)[0]
@@ -245,11 +253,8 @@ class ByDice(unittest.TestCase):
     def test_as_another_way_tells_them(self):
         kinds = {}
         for seed in range(400):
-            dice = random.Random(seed)
-            machines = some_machines(dice, seed)
-            args = tuple(dice.choice((0, 1, 2, 5)) for _ in range(machines[0][1]))
-            events = some_events(dice, machines, args, 12)
-            for one in told_story(self, machines, events, machines[0][0], args)[0]:
+            _, machines, name, args, events = some_run_of(seed, 12)
+            for one in told_story(self, machines, events, name, args)[0]:
                 kind = (len(one[0]), one[4] != (), one[6][:1])
                 kinds[kind] = kinds.get(kind, 0) + 1
         for path in (0, 2, 4):

@@ -1,5 +1,4 @@
 import copy
-import random
 import unittest
 
 from errandroom.making import made
@@ -9,7 +8,7 @@ from errandroom.walking import walks
 from makings import machine, replaced, room
 from samples import OFF, WHOLE, bad, good
 from test_halls import END, ask, call, gives, waits
-from test_stories import SLOW, TWICE, some_events, some_machines, told_story
+from test_stories import SLOW, TWICE, some_run_of, told_story
 
 S = [("slot", s) for s in range(4)]
 
@@ -163,6 +162,33 @@ class Walks(unittest.TestCase):
         for end in (("good", 2, 2), ("off", 0, 2), ("good", 2, 1)):
             self.assertIs(walks(machines, "main", (), (good((0, 0), 1), good((0, 1), 2)), with_part(told, 1, 1, 4, end)), False)
 
+    def test_answers_that_come_ahead_of_what_they_answer(self):
+        # Late, they end nothing that is sent later.
+        machines = (machine(waits(ask(0), to=0, fall=(1, 1)), gives(S[1])),)
+        told = self.check(machines, good((1, 0), 7), good((0, 0), 8))
+        self.assertEqual(told[1][1], ((1, 0), "sun", 1, 2, ()))
+        told = self.check(machines, good((1, 0), 7), good((0, 0), 8), bad((1, 0), 9))
+        self.assertEqual(told[1][1], ((1, 0), "sun", 1, 2, ("bad", 9, 3)))
+
+    def test_what_would_have_waited_on_though_called_off(self):
+        # Told so that a house that was called off waits for its answer, and goes out only then.
+        machines = (machine(waits(ask(0), off=2), END, gives(5)),)
+        events = (OFF, good((0, 0), 4))
+        told = story(machines, "main", (), events)
+        later = with_part(told, 1, 0, 4, ("good", 4, 2))
+        slots = (0,) * 4
+        for steps, end in ((((0, 0, slots), (2, 2, slots)), ("off", 0, 2)), (((0, 0, slots), (2, 1, (4, 0, 0, 0))), ("off", 0, 2))):
+            for called in ((1,), (2,), ()):
+                fake = with_part(with_part(with_part(later, 0, 0, 5, steps), 0, 0, 6, end), 0, 0, 4, called)
+                self.assertIs(walks(machines, "main", (), events, fake), False)
+        # And the other way round, in a room that is shut.
+        machines = (machine(waits(ask(0), off="shut"), END),)
+        told = story(machines, "main", (), events)
+        self.assertEqual(told[0][0][6], ("off", 0, 2))
+        for end, hour in ((("off", 0, 1), 1), (("good", 4, 2), 1), (("off", 0, 1), 2)):
+            fake = with_part(with_part(told, 1, 0, 4, end), 0, 0, 6, ("off", 0, hour))
+            self.assertIs(walks(machines, "main", (), events, with_part(fake, 0, 0, 5, ((0, 0, slots),))), False)
+
     def test_a_house_that_would_end_for_another_that_never_does(self):
         # Two tellings that each hold together but for the events: one with the answer, one without.
         sub = machine(waits(ask(0)), gives(S[0]), name="sub")
@@ -199,11 +225,7 @@ class Walks(unittest.TestCase):
 class ByDice(unittest.TestCase):
     def test_one_thing_otherwise(self):
         for seed in range(120):
-            dice = random.Random(seed)
-            machines = some_machines(dice, seed)
-            args = tuple(dice.choice((0, 1, 2, 5)) for _ in range(machines[0][1]))
-            events = some_events(dice, machines, args, 10)
-            name = machines[0][0]
+            dice, machines, name, args, events = some_run_of(seed, 10)
             told = story(machines, name, args, events)
             every = list(others(told))
             for other in dice.sample(every, min(60, len(every))):
@@ -212,11 +234,7 @@ class ByDice(unittest.TestCase):
     def test_stories_of_other_events(self):
         unlike = 0
         for seed in range(200):
-            dice = random.Random(seed)
-            machines = some_machines(dice, seed)
-            args = tuple(dice.choice((0, 1, 2, 5)) for _ in range(machines[0][1]))
-            events = some_events(dice, machines, args, 10)
-            name = machines[0][0]
+            dice, machines, name, args, events = some_run_of(seed, 10)
             told = story(machines, name, args, events)
             for _ in range(4):
                 changed = list(events) or [OFF]
