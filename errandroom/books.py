@@ -22,12 +22,13 @@ def runs_to_all(machines, name, args, world, most):
     runs = {first: ()}
     waits = [first]
     while len(waits) > 0:
+        # Each new one is looked at in a later turn, so none is left uncounted.
+        if len(runs) > most:
+            raise TooMany("there are more bares than that")
         hall = waits.pop()
         for event in answers_to(hall, world):
             there = behind(machines, hall, event)
             if there not in runs:
-                if len(runs) == most:
-                    raise TooMany("there are more bares than that")
                 runs[there] = runs[hall] + (event,)
                 waits.append(there)
     return runs
